@@ -1,0 +1,1 @@
+"""Rainparcels: a load told by sums of its pieces."""
